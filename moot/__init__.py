@@ -1,0 +1,1 @@
+"""Moot: an order of business, kept motion by motion."""

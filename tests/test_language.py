@@ -94,10 +94,26 @@ class TestLanguage(unittest.TestCase):
                     self.assertNotIn("%", node.value if isinstance(node.value, str) else "")
                 if isinstance(node, ast.Assign):
                     self.assertEqual(len(node.targets), 1)
+                    self.assertNotIsInstance(node.targets[0], (ast.Tuple, ast.List))
                 if isinstance(node, (ast.For, ast.While)):
                     self.assertEqual(node.orelse, [])
                 if isinstance(node, ast.Try):
                     self.assertEqual(node.finalbody, [])
+
+    def test_the_top_of_a_module(self):
+        for path in FILES:
+            bound = []
+            for node in ast.parse(path.read_text()).body:
+                with self.subTest(name=path.name, line=node.lineno):
+                    self.assertIsInstance(node, (ast.Expr, ast.ImportFrom, ast.Assign, ast.FunctionDef, ast.ClassDef))
+                    if isinstance(node, ast.Assign):
+                        # No reckoning there: a plain value is one that can be read off.
+                        ast.literal_eval(node.value)
+                        bound.append(node.targets[0].id)
+                    if isinstance(node, (ast.FunctionDef, ast.ClassDef)):
+                        bound.append(node.name)
+            with self.subTest(name=path.name):
+                self.assertEqual(sorted(bound), sorted(set(bound)))
 
     def test_imports(self):
         for name, node in walk_all():

@@ -1,5 +1,6 @@
 """What is in order: the bar of a pile, and the kinds of motions above it."""
 
+from moot.errors import Barred, NoChange, NoMatter
 from moot.motions import RANKS
 
 CLOSED_BAR = 4
@@ -40,3 +41,15 @@ def kinds_in_order(pile, closed):
     bar = bar_of(pile, closed)
     # The ranks stand rising where they are written, and a walk keeps to that.
     return [kind for kind in RANKS if RANKS[kind] > bar and has_what_it_needs(kind, pile)]
+
+
+def require_in_order(kind, pile, closed):
+    """Refuse a kind that is not in order, with the bar, or with what it lacks."""
+    bar = bar_of(pile, closed)
+    if RANKS[kind] <= bar:
+        raise Barred(bar)
+    if not has_what_it_needs(kind, pile):
+        if has_matter(pile):
+            # A mend alone asks for more than a matter.
+            raise NoChange("the top motion is no change that can be mended")
+        raise NoMatter(f"{kind} needs a matter on the pile")

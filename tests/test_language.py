@@ -124,6 +124,36 @@ class TestLanguage(unittest.TestCase):
                     self.assertIn(node.module[len("moot."):] + ".py", [path.name for path in FILES])
                     self.assertNotIn("*", [alias.name for alias in node.names])
 
+    def test_no_two_files_draw_from_one_another(self):
+        drawn = {path.name[:-len(".py")]: set() for path in FILES}
+        for name, node in walk_all():
+            if isinstance(node, ast.ImportFrom):
+                drawn[name[:-len(".py")]].add(node.module[len("moot."):])
+        while drawn:
+            # A file that draws from none of those left can be read ahead of them.
+            free = [name for name in drawn if not drawn[name] & set(drawn)]
+            self.assertNotEqual(free, [], drawn)
+            for name in free:
+                del drawn[name]
+
+    def test_no_local_is_called_like_a_class_or_an_import(self):
+        for path in FILES:
+            nodes = list(ast.walk(ast.parse(path.read_text())))
+            taken = {alias.name for node in nodes if isinstance(node, ast.ImportFrom) for alias in node.names}
+            taken |= {node.name for node in nodes if isinstance(node, ast.ClassDef)}
+            for node in nodes:
+                if isinstance(node, ast.arg) or isinstance(node, ast.Name) and isinstance(node.ctx, ast.Store):
+                    with self.subTest(name=path.name, line=node.lineno):
+                        self.assertNotIn(names_given(node)[0], taken)
+
+    def test_texts_with_names_in_them(self):
+        for name, node in walk_all():
+            if isinstance(node, ast.FormattedValue):
+                with self.subTest(name=name, line=node.lineno):
+                    self.assertIsInstance(node.value, ast.Name)
+                    self.assertIsNone(node.format_spec)
+                    self.assertIn(node.conversion, (-1, ord("r")))
+
     def test_functions_and_classes(self):
         for name, node in walk_all():
             with self.subTest(name=name, line=getattr(node, "lineno", 0)):

@@ -5,7 +5,8 @@ import itertools
 import re
 import unittest
 
-from moot.errors import ChamberError, NoRow
+from helper import ChamberTest
+from moot.errors import NoRow
 from moot.rows import read_deed, show_deed
 
 W20 = "twenty-signs-in-all!"
@@ -163,25 +164,11 @@ def deeds():
         yield (kind,)
 
 
-class RowsTest(unittest.TestCase):
-
-    def assert_same(self, one, other):
-        """Alike in values and in kinds: no list for a tuple, no truth for a number."""
-        self.assertIs(type(one), type(other))
-        if isinstance(one, (list, tuple)):
-            self.assertEqual(len(one), len(other))
-            for part, other_part in zip(one, other):
-                self.assert_same(part, other_part)
-        else:
-            self.assertEqual(one, other)
+class RowsTest(ChamberTest):
 
     def assert_no_row(self, row):
         with self.subTest(row=row):
-            with self.assertRaises(NoRow) as caught:
-                read_deed(row)
-            self.assertIsInstance(caught.exception, ChamberError)
-            self.assertIs(type(caught.exception.row), int)
-            self.assertEqual(caught.exception.row, 1)
+            self.assert_refused(NoRow, 1, read_deed, row)
 
 
 class TestDeedsAndRows(RowsTest):
